@@ -37,28 +37,47 @@ class Table:
 
 def form_behind(table, one, other):
     """The form of a change behind another one; each of them may be None."""
+    return form_by(table.kinds, table.told, one, other)
+
+
+def form_by(kinds, told, one, other):
+    """The form of a change behind another one, by the values told for entries; each change may be None."""
     if one is None or other is None:
         return one
-    value = table.told[entry_of(one, other)]
+    return with_value(kinds, one, told[entry_of(one, other)])
+
+
+def with_value(kinds, change, value):
+    """The form that a value of its entry gives a change; None, if it is not done at all."""
     if value is None:
         return None
-    _, place, letter, hand = one
+    _, place, letter, hand = change
     name, shift = value
-    return (name, place + shift, letter if needs_letter(table.kinds, name) else None, hand)
+    return (name, place + shift, letter if needs_letter(kinds, name) else None, hand)
 
 
 def entry_of(one, other):
     """The entry by which the first change is done behind the second one."""
     if one[3] == other[3]:
         raise SameHand("two changes of the same hand have no entry")
-    gap = max(-FARTHEST, min(FARTHEST, one[1] - other[1]))
-    return (one[0], other[0], gap, one[3] < other[3])
+    return (one[0], other[0], gap_of(one[1] - other[1]), one[3] < other[3])
+
+
+def gap_of(distance):
+    """The gap of an entry for changes at this distance."""
+    return max(-FARTHEST, min(FARTHEST, distance))
 
 
 def partner(entry):
     """The entry of the same two changes the other way round."""
     one, other, gap, less = entry
     return (other, one, -gap, not less)
+
+
+def check_table(table):
+    """Raise BadTable unless this is a Table."""
+    if not isinstance(table, Table):
+        raise BadTable(None)
 
 
 def natural(kinds):

@@ -6,6 +6,7 @@ from itertools import permutations
 from changetables.changes import done, done_all
 from changetables.errors import BadChange, BadKinds, BadText, CannotDo
 from changetables.kinds import Kinds
+from reference import raised
 
 KINDS = Kinds({"put": (0, ("new",)), "cut": (1, ()), "set": (1, ("new",)), "swap": (2, (1, 0))})
 ROWS = {
@@ -26,15 +27,6 @@ NO_CHANGES = [
     ("put", 0, 9, -1), ("put", 0, 9, None), ("put", 0, 9, "0"), ("put", 0, 9, True), ("put", 0, 9, False),
     ("cut", 0, None, -1), ("cut", True, None, 0), ("cut", 0, None, False), ("swap", 0, None, 1.0),
 ]
-
-
-def raised(error, call, *arguments):
-    """The error that a call raises."""
-    try:
-        found = call(*arguments)
-    except error as caught:
-        return caught
-    raise AssertionError(f"{error.__name__} was not raised, but {found!r} returned")
 
 
 def of_kind(name):

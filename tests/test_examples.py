@@ -27,6 +27,43 @@ TABLES = """
 [('put', 'cut', 2, True), ('put', 3, 50, 0), ('cut', 2, None, 1), ('cut', 'put', -2, False), 56, 6]
 """
 
+TWOHANDS = """
+>>> from changetables.kinds import Kinds
+>>> from changetables.tables import natural
+>>> from changetables.twohands import judge_two, meet_well
+>>> cuts = natural(Kinds({'cut': (1, ())}))
+>>> puts = natural(Kinds({'put': (0, ('new',))}))
+>>> found = judge_two(puts.with_entry(('put', 'put', 0, False), ('put', 0)))
+>>> [judge_two(cuts).ends['cut', 'cut', 1][:9], bool(judge_two(puts)), found.text, meet_well(cuts, (1, 2), ('cut', 0, None, 0), ('cut', 0, None, 5))]
+[(0, 1, 2, 3, 4, 5, 6, 7, 10), True, (), True]
+"""
+
+ANYHANDS = """
+>>> from changetables.anyhands import in_order, judge_any
+>>> from changetables.kinds import Kinds
+>>> from changetables.tables import natural
+>>> puts, swaps = natural(Kinds({'put': (0, ('new',))})), natural(Kinds({'swap': (2, (1, 0))}))
+>>> [in_order(puts, (1,), [('put', 0, 7, 0), ('put', 0, 8, 1), ('put', 1, 9, 2)], (2, 1, 0)), bool(judge_any(puts)), bool(judge_any(swaps))]
+[(7, 8, 1, 9), True, False]
+"""
+
+FILLINGS = """
+>>> from changetables.fillings import count_two, good_values, judge_filling
+>>> from changetables.kinds import Kinds
+>>> puts, both = Kinds({'put': (0, ('new',))}), Kinds({'put': (0, ('new',)), 'cut': (1, ())})
+>>> [good_values(puts, ('put', 'put', 0, True)), count_two(both, {}), bool(judge_filling(both, {}, 2)), bool(judge_filling(both, {}, 3))]
+[[(('put', 0), ('put', 1)), (('put', 1), ('put', 0))], 48, True, False]
+"""
+
+REPAIRS = """
+>>> from changetables.kinds import Kinds
+>>> from changetables.repairs import failing, friends, repaired
+>>> from changetables.tables import natural
+>>> bent = natural(Kinds({'put': (0, ('new',))})).with_entry(('put', 'put', 0, False), ('put', 0))
+>>> [failing(bent), friends(bent), repaired(bent).changes]
+[[(('put', 'put', 0, False), ('put', 'put', 0, True))], [], {('put', 'put', 0, True): ('put', 1)}]
+"""
+
 
 class Examples(unittest.TestCase):
     def check(self, name, text):
@@ -44,6 +81,18 @@ class Examples(unittest.TestCase):
 
     def test_tables(self):
         self.check("tables", TABLES)
+
+    def test_twohands(self):
+        self.check("twohands", TWOHANDS)
+
+    def test_anyhands(self):
+        self.check("anyhands", ANYHANDS)
+
+    def test_fillings(self):
+        self.check("fillings", FILLINGS)
+
+    def test_repairs(self):
+        self.check("repairs", REPAIRS)
 
 
 if __name__ == "__main__":

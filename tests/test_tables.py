@@ -6,6 +6,7 @@ from changetables.changes import done
 from changetables.errors import BadChange, BadKinds, BadTable, SameHand
 from changetables.kinds import Kinds
 from changetables.tables import Table, entry_of, natural, partner, values_of
+from reference import raised
 
 PUT, CUT, SET, SWAP = (0, ("new",)), (1, ()), (1, ("new",)), (2, (1, 0))
 DROP, JOIN, WIDE = (2, ()), (2, ("new",)), (2, (1, "new", 0))
@@ -44,15 +45,6 @@ def entries(names):
 def barred(kinds):
     """What a table tells in which each change is dropped behind every other one."""
     return {entry: None for entry in entries(kinds.names())}
-
-
-def raised(error, call, *arguments):
-    """The error that a call raises."""
-    try:
-        found = call(*arguments)
-    except error as caught:
-        return caught
-    raise AssertionError(f"{error.__name__} was not raised, but {found!r} returned")
 
 
 class EntryOf(unittest.TestCase):

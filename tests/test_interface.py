@@ -1,0 +1,52 @@
+"""What the interface lists: each name in its file, with its arguments, and `shows` in the class itself."""
+
+import importlib
+import inspect
+import unittest
+
+FUNCTIONS = {
+    "changes": {"done": "kinds text change", "done_all": "kinds text changes"},
+    "tables": {"entry_of": "one other", "partner": "entry", "natural": "kinds", "values_of": "kinds entry"},
+    "twohands": {"judge_two": "table", "meet_well": "table text one other"},
+    "anyhands": {"in_order": "table text changes order", "all_orders": "table text changes", "judge_any": "table"},
+    "fillings": {"good_values": "kinds entry", "count_two": "kinds part", "judge_filling": "kinds part many"},
+    "repairs": {"failing": "table", "friends": "table", "repaired": "table", "repaired_any": "table most"},
+}
+
+# The arguments of the class, and those of its method shows.
+EVIDENCE = {
+    "twohands": {"Meets": ("ends", "table"), "Splits": ("text one other", "table")},
+    "anyhands": {"Agrees": ("", "table"), "Turns": ("text changes one other", "table")},
+    "fillings": {"Filled": ("table", "kinds part many"), "Barred": ("tree", "kinds part many")},
+    "repairs": {"Repair": ("changes many", "table")},
+}
+
+
+def arguments(called):
+    """The names of the parameters of a function."""
+    return list(inspect.signature(called).parameters)
+
+
+class Interface(unittest.TestCase):
+    def test_functions(self):
+        for file, told in FUNCTIONS.items():
+            module = importlib.import_module(f"changetables.{file}")
+            for name, words in told.items():
+                with self.subTest(file=file, name=name):
+                    self.assertEqual(getattr(module, name).__module__, module.__name__)
+                    self.assertEqual(arguments(getattr(module, name)), words.split())
+
+    def test_evidence(self):
+        for file, told in EVIDENCE.items():
+            module = importlib.import_module(f"changetables.{file}")
+            for name, (made, shown) in told.items():
+                with self.subTest(file=file, name=name):
+                    found = getattr(module, name)
+                    self.assertEqual(found.__module__, module.__name__)
+                    self.assertEqual(arguments(found), made.split())
+                    self.assertIn("shows", vars(found))
+                    self.assertEqual(arguments(found.shows), ["self", *shown.split()])
+
+
+if __name__ == "__main__":
+    unittest.main()
