@@ -64,6 +64,46 @@ REPAIRS = """
 [[(('put', 'put', 0, False), ('put', 'put', 0, True))], [], {('put', 'put', 0, True): ('put', 1)}]
 """
 
+LISTS = """
+>>> from changetables.kinds import Kinds
+>>> from changetables.lists import effect, lists_behind, same_lists
+>>> from changetables.tables import natural
+>>> kinds = Kinds({'put': (0, ('new',)), 'cut': (1, ())})
+>>> found = effect(kinds, [('put', 2, 50, 0), ('cut', 0, None, 0)])
+>>> [found.need, found.row, found.of((5, 6, 7)), lists_behind(natural(kinds), [('put', 0, 50, 0), ('put', 1, 51, 0)], [('cut', 0, None, 1)])]
+[2, (1, ('new', 50)), (6, 50, 7), ([('put', 0, 50, 0), ('put', 1, 51, 0)], [('cut', 2, None, 1)])]
+"""
+
+COUNTING = """
+>>> from changetables.counting import count_any, mirrored, needs_hands, tables_two, together
+>>> from changetables.kinds import Kinds
+>>> from changetables.tables import natural
+>>> kinds = Kinds({'put': (0, ('new',)), 'cut': (1, ()), 'swap': (2, (1, 0))})
+>>> puts = Kinds({'put': (0, ('new',))})
+>>> [together(kinds, 2), together(kinds, 3), count_any(puts, {}), needs_hands(kinds, 'put'), needs_hands(kinds, 'cut'), mirrored(natural(puts)) in tables_two(puts, {}, 9)]
+[[('cut', 'put', 'swap')], [('cut',), ('put',)], 2, True, False, True]
+"""
+
+HOUSES = """
+>>> from changetables.houses import closing, judge_house, run
+>>> from changetables.kinds import Kinds
+>>> from changetables.tables import natural
+>>> table, steps = natural(Kinds({'put': (0, ('new',)), 'cut': (1, ())})), [('does', ('put', 1, 7, 0)), ('does', ('cut', 1, None, 1))]
+>>> late = closing(table, (1, 2, 3), 2, steps)
+>>> [late, run(table, (1, 2, 3), 2, steps).texts, run(table, (1, 2, 3), 2, steps + late).texts, bool(judge_house(table, 3))]
+[[('sends', 0), ('sends', 1), ('hears', 0), ('hears', 0), ('hears', 1), ('hears', 1)], ((1, 7, 2, 3), (1, 3)), ((1, 7, 3), (1, 7, 3)), True]
+"""
+
+HISTORIES = """
+>>> from changetables.histories import done_in, judge_history, orders_of
+>>> from changetables.kinds import Kinds
+>>> from changetables.tables import natural
+>>> table = natural(Kinds({'put': (0, ('new',))}))
+>>> history = [(('put', 0, 7, 0), ()), (('put', 0, 8, 1), ()), (('put', 2, 9, 0), (0, 1))]
+>>> [orders_of(table, history), done_in(table, (1,), history, (1, 0, 2)), judge_history(table, (1,), history).text]
+[[(0, 1, 2), (1, 0, 2)], (7, 8, 9, 1), (7, 8, 9, 1)]
+"""
+
 
 class Examples(unittest.TestCase):
     def check(self, name, text):
@@ -93,6 +133,18 @@ class Examples(unittest.TestCase):
 
     def test_repairs(self):
         self.check("repairs", REPAIRS)
+
+    def test_lists(self):
+        self.check("lists", LISTS)
+
+    def test_counting(self):
+        self.check("counting", COUNTING)
+
+    def test_houses(self):
+        self.check("houses", HOUSES)
+
+    def test_histories(self):
+        self.check("histories", HISTORIES)
 
 
 if __name__ == "__main__":

@@ -150,6 +150,15 @@ class Form(unittest.TestCase):
                 if isinstance(node, ast.Call) and isinstance(node.func, ast.Name) and node.func.id == "set":
                     self.assertIn(node, allowed, (name, node.lineno))
 
+    def test_what_is_iterated_at_once(self):
+        for name, _, tree in files():
+            for node in ast.walk(tree):
+                if isinstance(node, ast.Call) and isinstance(node.func, ast.Name) and node.func.id == "reversed":
+                    self.assertIn(getattr(getattr(node.args[0], "func", None), "id", ""), ("list", "tuple", "range"), name)
+                elif isinstance(node, ast.Starred) and isinstance(node.value, ast.Call):
+                    called = getattr(node.value.func, "id", getattr(node.value.func, "attr", ""))
+                    self.assertNotIn(called, ("range", "zip", "enumerate", "reversed", "items", "keys", "values"), name)
+
     def test_methods_that_are_called(self):
         own = {node.name for _, _, tree in files() for node in ast.walk(tree) if isinstance(node, ast.FunctionDef)}
         for name, _, tree in files():
@@ -210,7 +219,8 @@ class Form(unittest.TestCase):
                     self.assertLessEqual({alias.name for alias in node.names}, names, name)
         told = {"done", "done_all", "natural", "values_of", "partner", "entry_of", "judge_two", "meet_well", "in_order",
                 "all_orders", "judge_any", "good_values", "count_two", "judge_filling", "failing", "friends", "repaired",
-                "repaired_any"}
+                "repaired_any", "effect", "same_lists", "lists_behind", "mirrored", "tables_two", "count_any", "tables_any",
+                "together", "needs_hands", "run", "closing", "judge_house", "orders_of", "done_in", "judge_history"}
         self.assertLessEqual(made, used | told)
 
 

@@ -11,6 +11,12 @@ FUNCTIONS = {
     "anyhands": {"in_order": "table text changes order", "all_orders": "table text changes", "judge_any": "table"},
     "fillings": {"good_values": "kinds entry", "count_two": "kinds part", "judge_filling": "kinds part many"},
     "repairs": {"failing": "table", "friends": "table", "repaired": "table", "repaired_any": "table most"},
+    "lists": {"effect": "kinds changes", "same_lists": "kinds one other", "lists_behind": "table one other"},
+    "counting": {"mirrored": "table", "tables_two": "kinds part most", "count_any": "kinds part",
+                 "tables_any": "kinds part", "together": "kinds many", "needs_hands": "kinds name"},
+    "houses": {"run": "table text hands steps", "closing": "table text hands steps", "judge_house": "table hands"},
+    "histories": {"orders_of": "table history", "done_in": "table text history order",
+                  "judge_history": "table text history"},
 }
 
 # The arguments of the class, and those of its method shows.
@@ -19,6 +25,17 @@ EVIDENCE = {
     "anyhands": {"Agrees": ("", "table"), "Turns": ("text changes one other", "table")},
     "fillings": {"Filled": ("table", "kinds part many"), "Barred": ("tree", "kinds part many")},
     "repairs": {"Repair": ("changes many", "table")},
+    "houses": {"Serves": ("hands", "table hands"), "Fails": ("text steps", "table hands")},
+    "histories": {"SameEnd": ("text", "table text history"), "PartedEnd": ("one other", "table text history")},
+}
+
+# The arguments of other classes, and of their methods.
+CLASSES = {
+    "kinds": {"Kinds": ("told", {"names": "", "growth": "name"})},
+    "tables": {"Table": ("kinds told", {"behind": "one other", "with_entry": "entry value"})},
+    "lists": {"Effect": ("need row", {"of": "text"})},
+    "houses": {"End": ("text texts waiting unheard", {}), "BadStep": ("place", {}), "BadHistory": ("number", {}),
+               "BadScript": ("line column", {}), "NothingDone": (None, {})},
 }
 
 
@@ -46,6 +63,19 @@ class Interface(unittest.TestCase):
                     self.assertEqual(arguments(found), made.split())
                     self.assertIn("shows", vars(found))
                     self.assertEqual(arguments(found.shows), ["self", *shown.split()])
+
+    def test_other_classes(self):
+        for file, told in CLASSES.items():
+            module = importlib.import_module(f"changetables.{file}")
+            for name, (made, methods) in told.items():
+                with self.subTest(file=file, name=name):
+                    found = getattr(module, name)
+                    self.assertEqual(found.__module__, module.__name__)
+                    if made is not None:
+                        self.assertEqual(arguments(found), made.split())
+                    for method, words in methods.items():
+                        self.assertIn(method, vars(found))
+                        self.assertEqual(arguments(vars(found)[method]), ["self", *words.split()])
 
 
 if __name__ == "__main__":
