@@ -88,8 +88,8 @@ def first_fillings(kinds, options, most):
 def next_values(options, entry, row, numbers):
     """The values of an entry behind a row of those of the entries ahead of it, None ahead of pairs."""
     if entry in options:
-        firsts = [value for value, _ in options[entry]]
-        return [value for at, value in enumerate(firsts) if value not in firsts[:at]]
+        # Each value stands in one pair: what it makes can be made by one value of the partner only.
+        return [value for value, _ in options[entry]]
     lesser = partner(entry)
     return [worth for value, worth in options[lesser] if value == row[numbers[lesser]]]
 

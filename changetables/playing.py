@@ -20,32 +20,32 @@ class Play:
         self.uppers = [None, *links]
         self.texts = [text for _ in self.uppers]
         # The forms that wait with a node for its upper one: those that it sent, and behind them the others.
-        self.sent = [[] for _ in self.uppers]
-        self.kept = [[] for _ in self.uppers]
+        self.sent = [() for _ in self.uppers]
+        self.kept = [() for _ in self.uppers]
         # The changes of the upper one's row that the node has not heard, each with its form behind all that the
         # node has sent; None and None for what came from the node itself.
-        self.unheard = [[] for _ in self.uppers]
-        self.letters = {letter: True for letter in text}
+        self.unheard = [() for _ in self.uppers]
 
     def copied(self):
         """The same once more, which can go on by itself."""
         again = Play(self.table, (), self.uppers[1:])
         again.texts = list(self.texts)
-        again.sent = [list(forms) for forms in self.sent]
-        again.kept = [list(forms) for forms in self.kept]
-        again.unheard = [list(pairs) for pairs in self.unheard]
-        again.letters = {letter: True for letter in self.letters}
+        again.sent = list(self.sent)
+        again.kept = list(self.kept)
+        again.unheard = list(self.unheard)
         return again
 
 
 def play_all(play, deeds):
     """The number of the first deed that cannot be made, None, if all can; and whether all forms can be done."""
+    letters = {letter: True for letter in play.texts[0]}
     well = True
     for at, deed in enumerate(deeds):
         # Behind a form that cannot be done there are no texts: what needs none can be wrong there all the same.
-        if deed is None or has_old_letter(play, deed) or (well and not can_make(play, deed)):
+        if deed is None or letter_of(deed) in letters or (well and not can_make(play, deed)):
             return at, well
-        keep_letter(play, deed)
+        if letter_of(deed) is not None:
+            letters[letter_of(deed)] = True
         well = well and make(play, deed)
     return None, well
 
@@ -83,25 +83,18 @@ def unheard_of(play):
 def next_deed(play):
     """The next deed of closing; None, if nothing waits and all is heard."""
     for node, forms in enumerate(play.kept):
-        if forms != []:
+        if forms != ():
             return (UP, node, None)
     for node, pairs in enumerate(play.unheard):
-        if pairs != []:
+        if pairs != ():
             return (DOWN, node, None)
     return None
 
 
-def has_old_letter(play, deed):
-    """Whether the first text or an earlier change has the letter of the deed's change."""
+def letter_of(deed):
+    """The letter of a deed's change; None, if it has none."""
     change = deed[2]
-    return change is not None and change[2] in play.letters
-
-
-def keep_letter(play, deed):
-    """Keep the letter of the deed's change, so that no later one has it."""
-    change = deed[2]
-    if change is not None and change[2] is not None:
-        play.letters[change[2]] = True
+    return None if change is None else change[2]
 
 
 def can_make(play, deed):
@@ -110,7 +103,7 @@ def can_make(play, deed):
     if word == DOES:
         return can_do(play.table.kinds, play.texts[node], change)
     waiting = play.kept if word == UP else play.unheard
-    return waiting[node] != []
+    return waiting[node] != ()
 
 
 def make(play, deed):
@@ -125,24 +118,26 @@ def make(play, deed):
 
 def send(play, node):
     """Send the first form that was not sent up from a node; whether it can be done there."""
-    form = play.kept[node].pop(0)
-    play.sent[node].append(form)
-    form, forms = past(play.table, form, [pair[1] for pair in play.unheard[node]])
-    play.unheard[node] = [(pair[0], behind) for pair, behind in zip(play.unheard[node], forms)]
+    first, *others = play.kept[node]
+    play.kept[node] = tuple(others)
+    play.sent[node] = (*play.sent[node], first)
+    form, forms = past(play.table, first, [pair[1] for pair in play.unheard[node]])
+    play.unheard[node] = tuple([(pair[0], behind) for pair, behind in zip(play.unheard[node], forms)])
     return stand(play, play.uppers[node], form, node)
 
 
 def hear(play, node):
     """Let a node hear the next change of its upper one's row; whether its form can be done."""
-    change, _ = play.unheard[node].pop(0)
+    change, _ = play.unheard[node][0]
+    play.unheard[node] = play.unheard[node][1:]
     if change is None:
         # What was sent ahead of it and is not in the row has come to nothing here, too: it is the first one.
-        play.sent[node].pop(0)
+        play.sent[node] = play.sent[node][1:]
         return True
     form, sent = past(play.table, change, play.sent[node])
     form, kept = past(play.table, form, play.kept[node])
-    play.sent[node] = without_none(sent)
-    play.kept[node] = without_none(kept)
+    play.sent[node] = tuple(without_none(sent))
+    play.kept[node] = tuple(without_none(kept))
     return stand(play, node, form, play.uppers[node])
 
 
@@ -155,7 +150,8 @@ def stand(play, node, form, source):
     play.texts[node] = text_behind(play.table.kinds, play.texts[node], form)
     for lower, upper in enumerate(play.uppers):
         if upper == node:
-            play.unheard[lower].append((None, None) if lower == source else (form, form))
+            pair = (None, None) if lower == source else (form, form)
+            play.unheard[lower] = (*play.unheard[lower], pair)
     if node > 0 and source != play.uppers[node]:
-        play.kept[node].append(form)
+        play.kept[node] = (*play.kept[node], form)
     return True

@@ -190,3 +190,129 @@ def draw_history(random, table, many, hands):
             break
         history.append((change, tuple(sorted(seen))))
     return text, history
+
+
+class PlainNode:
+    """A node of a tree: its text and its row, and what it has heard of its upper one's."""
+
+    def __init__(self, text):
+        self.text = text
+        # Triples of a number, a form, and the node from which it came.
+        self.row = []
+        self.waiting = []
+        self.heard = 0
+        # For each lower node the forms of this row behind what the lower node has sent.
+        self.forms = {}
+
+
+class PlainTree:
+    """A tree of houses, each change with a number of its own."""
+
+    def __init__(self, table, text, links):
+        self.kinds, self.told = table.kinds, table.told
+        self.uppers = [None, *links]
+        self.nodes = [PlainNode(text) for _ in self.uppers]
+        self.letters = set(text)
+        self.count = 0
+
+    def can(self, step):
+        """Whether a step of the right form can be made."""
+        word, told = step
+        if word == "does":
+            return (told[3] < len(self.nodes) and told[2] not in self.letters
+                    and done_to(self.kinds, self.nodes[told[3]].text, told) is not None)
+        if not 1 <= told < len(self.nodes):
+            return False
+        if word == "up":
+            return any(not item.sent for item in self.nodes[told].waiting)
+        return self.nodes[told].heard < len(self.nodes[self.uppers[told]].row)
+
+    def make(self, step):
+        """Make a step that can be made."""
+        word, told = step
+        if word == "does":
+            self.letters |= {told[2]} - {None}
+            self.count += 1
+            self.stand(told[3], self.count, told, told[3])
+        elif word == "up":
+            self.go_up(told)
+        else:
+            self.go_down(told)
+
+    def stand(self, node, number, form, source):
+        """Do a form at a node and put it into its row; it waits, unless it came from the upper node."""
+        here = self.nodes[node]
+        here.text = done_to(self.kinds, here.text, form)
+        if here.text is None:
+            raise Lost()
+        here.row.append((number, form, source))
+        if node != 0 and source != self.uppers[node]:
+            here.waiting.append(Item(number, form))
+
+    def go_up(self, node):
+        """Send a change to the upper node, which takes it."""
+        here, upper = self.nodes[node], self.nodes[self.uppers[node]]
+        item = [item for item in here.waiting if not item.sent][0]
+        item.sent = True
+        form, forms = item.form, upper.forms.setdefault(node, {})
+        for place in range(here.heard, len(upper.row)):
+            if upper.row[place][2] != node:
+                other = forms.get(place, upper.row[place][1])
+                forms[place] = form_of(self.kinds, self.told, other, form)
+                form = form_of(self.kinds, self.told, form, other)
+        if form is not None:
+            self.stand(self.uppers[node], item.number, form, node)
+
+    def go_down(self, node):
+        """Hear the next change of the upper node's row."""
+        here = self.nodes[node]
+        number, form, source = self.nodes[self.uppers[node]].row[here.heard]
+        here.heard += 1
+        if source == node:
+            own = [item for item in here.waiting if item.number == number]
+            if len(own) != 1:
+                raise AssertionError("what it hears does not wait any more")
+            here.waiting.remove(own[0])
+            return
+        for item in here.waiting:
+            item.form, form = (form_of(self.kinds, self.told, item.form, form),
+                               form_of(self.kinds, self.told, form, item.form))
+        here.waiting = [item for item in here.waiting if item.form is not None]
+        if form is not None:
+            self.stand(node, number, form, self.uppers[node])
+
+    def end(self):
+        """The texts, how many wait and how many are not heard."""
+        return (tuple(node.text for node in self.nodes), tuple(len(node.waiting) for node in self.nodes),
+                (0, *(len(self.nodes[upper].row) - node.heard for node, upper in zip(self.nodes[1:], self.uppers[1:]))))
+
+    def next_step(self):
+        """The next step of closing; None, if there is none."""
+        for word in ("up", "down"):
+            for node in range(1, len(self.nodes)):
+                if self.can((word, node)):
+                    return (word, node)
+        return None
+
+    def all_texts(self):
+        """All texts."""
+        return [node.text for node in self.nodes]
+
+
+def draw_tree(random, table, links, many):
+    """A text and steps, drawn, that can be made, up to the first form that cannot be done, and the PlainTree."""
+    text = tuple(range(random.randrange(6)))
+    play = PlainTree(table, text, links)
+    steps = []
+    for number in range(many):
+        node = random.randrange(len(links) + 1)
+        step = (random.choice(("up", "down")), node)
+        if random.random() < 0.35:
+            step = ("does", draw_change(random, table.kinds, len(play.nodes[node].text), node, 100 + number))
+        if step[1] is not None and play.can(step):
+            steps.append(step)
+            try:
+                play.make(step)
+            except Lost:
+                return text, steps, None
+    return text, steps, play

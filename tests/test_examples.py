@@ -104,6 +104,46 @@ HISTORIES = """
 [[(0, 1, 2), (1, 0, 2)], (7, 8, 9, 1), (7, 8, 9, 1)]
 """
 
+TURNING = """
+>>> from changetables.kinds import Kinds
+>>> from changetables.turning import kind_back, list_back, taken_back, turned, turned_kinds
+>>> kinds = Kinds({'put': (0, ('new',)), 'cut': (1, ()), 'join': (2, ('new',))})
+>>> [taken_back(kinds, (4, 5, 6), ('cut', 1, None, 0)), kind_back(kinds, 'put'), kind_back(kinds, 'join'), list_back(kinds, (4, 5), [('put', 0, 9, 0), ('cut', 2, None, 0)])]
+[('put', 1, 5, 0), 'cut', None, [('put', 2, 5, 0), ('cut', 0, None, 0)]]
+>>> [turned_kinds(Kinds({'move': (2, (1, 'new'))}))['move'], turned(kinds, (4, 5, 6), ('join', 0, 9, 1))]
+[(2, ('new', 0)), ('join', 1, 9, 1)]
+"""
+
+TABLETEXTS = r"""
+>>> from changetables.tabletexts import read_run, read_table, write_run, write_table
+>>> table = read_table('kind put: 0 new\nput put at 0 not: put 0 # stays')
+>>> [write_table(table), read_run(table.kinds, 'text 4 5\nhands 2\n0 does put at 1 with 7\n0 sends')]
+['kind put: 0 new\nput put at 0 not: put 0\n', ((4, 5), 2, [('does', ('put', 1, 7, 0)), ('sends', 0)])]
+>>> write_run((), 1, [('hears', 0)])
+'text\nhands 1\n0 hears\n'
+"""
+
+DESKS = """
+>>> from changetables.desks import Desk
+>>> from changetables.kinds import Kinds
+>>> from changetables.tables import natural
+>>> desk = Desk(natural(Kinds({'put': (0, ('new',))})), (1,), 2)
+>>> late = desk.does(('put', 0, 7, 0)).does(('put', 1, 8, 1)).sends(0).hears(1)
+>>> [desk.text(), desk.texts(), desk.waits(1), len(desk), desk.close().texts(), len(desk.undo())]
+[(7, 1), ((7, 1), (7, 1, 8)), [('put', 2, 8, 1)], 4, ((7, 1, 8), (7, 1, 8)), 4]
+"""
+
+TREES = """
+>>> from changetables.kinds import Kinds
+>>> from changetables.tables import natural
+>>> from changetables.trees import closing_tree, judge_tree, run_tree
+>>> table = natural(Kinds({'put': (0, ('new',)), 'cut': (1, ())}))
+>>> steps = [('does', ('put', 0, 7, 0)), ('does', ('cut', 0, None, 2)), ('up', 2)]
+>>> late = closing_tree(table, (1, 2), [0, 1], steps)
+>>> [run_tree(table, (1, 2), [0, 1], steps).texts, late, run_tree(table, (1, 2), [0, 1], steps + late).texts, bool(judge_tree(table, [0, 1]))]
+[((7, 1, 2), (2,), (2,)), [('up', 1), ('down', 1), ('down', 1), ('down', 2), ('down', 2)], ((7, 2), (7, 2), (7, 2)), True]
+"""
+
 
 class Examples(unittest.TestCase):
     def check(self, name, text):
@@ -145,6 +185,18 @@ class Examples(unittest.TestCase):
 
     def test_histories(self):
         self.check("histories", HISTORIES)
+
+    def test_turning(self):
+        self.check("turning", TURNING)
+
+    def test_tabletexts(self):
+        self.check("tabletexts", TABLETEXTS)
+
+    def test_desks(self):
+        self.check("desks", DESKS)
+
+    def test_trees(self):
+        self.check("trees", TREES)
 
 
 if __name__ == "__main__":

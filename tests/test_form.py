@@ -220,7 +220,10 @@ class Form(unittest.TestCase):
         told = {"done", "done_all", "natural", "values_of", "partner", "entry_of", "judge_two", "meet_well", "in_order",
                 "all_orders", "judge_any", "good_values", "count_two", "judge_filling", "failing", "friends", "repaired",
                 "repaired_any", "effect", "same_lists", "lists_behind", "mirrored", "tables_two", "count_any", "tables_any",
-                "together", "needs_hands", "run", "closing", "judge_house", "orders_of", "done_in", "judge_history"}
+                "together", "needs_hands", "run", "closing", "judge_house", "orders_of", "done_in", "judge_history",
+                "taken_back", "kind_back", "list_back", "renamed", "exchanged", "turned_kinds", "turned", "read_kinds",
+                "read_table", "read_run", "write_kinds", "write_table", "write_run", "run_tree", "closing_tree",
+                "judge_tree"}
         self.assertLessEqual(made, used | told)
 
 

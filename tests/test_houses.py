@@ -167,8 +167,9 @@ class Run(unittest.TestCase):
         bad = PUTS.with_entry(("put", "put", 0, False), ("put", -1))
         self.assertIsNone(run(bad, (), 2, steps))
         self.assertEqual(told(run(bad, (), 2, steps[:3])), ((8,), ((7,), (8,)), (1, 1), (1, 1)))
-        # Steps behind it are not made.
+        # Steps behind it are not made, and it is not asked whether there is anything to send or to hear.
         self.assertIsNone(run(bad, (), 2, steps + [("sends", 0), ("hears", 1), ("hears", 1)]))
+        self.assertIsNone(run(bad, (), 2, steps + [("sends", 0)] * 9 + [("does", ("put", 50, 9, 0))]))
 
     def test_what_is_given_stays_and_what_is_returned_is_new(self):
         steps = [PUT, CUT]

@@ -17,6 +17,12 @@ FUNCTIONS = {
     "houses": {"run": "table text hands steps", "closing": "table text hands steps", "judge_house": "table hands"},
     "histories": {"orders_of": "table history", "done_in": "table text history order",
                   "judge_history": "table text history"},
+    "turning": {"taken_back": "kinds text change", "kind_back": "kinds name", "list_back": "kinds text changes",
+                "renamed": "table names", "exchanged": "table", "turned_kinds": "kinds", "turned": "kinds text change"},
+    "tabletexts": {"read_kinds": "text", "read_table": "text", "read_run": "kinds text", "write_kinds": "kinds",
+                   "write_table": "table", "write_run": "text hands steps"},
+    "trees": {"run_tree": "table text links steps", "closing_tree": "table text links steps",
+              "judge_tree": "table links"},
 }
 
 # The arguments of the class, and those of its method shows.
@@ -27,6 +33,7 @@ EVIDENCE = {
     "repairs": {"Repair": ("changes many", "table")},
     "houses": {"Serves": ("hands", "table hands"), "Fails": ("text steps", "table hands")},
     "histories": {"SameEnd": ("text", "table text history"), "PartedEnd": ("one other", "table text history")},
+    "trees": {"Grows": ("links", "table links"), "Withers": ("text steps", "table links")},
 }
 
 # The arguments of other classes, and of their methods.
@@ -36,6 +43,10 @@ CLASSES = {
     "lists": {"Effect": ("need row", {"of": "text"})},
     "houses": {"End": ("text texts waiting unheard", {}), "BadStep": ("place", {}), "BadHistory": ("number", {}),
                "BadScript": ("line column", {}), "NothingDone": (None, {})},
+    "desks": {"Desk": ("table text hands", {
+        "does": "change", "sends": "hand", "hears": "hand", "close": "", "undo": "", "steps": "", "text": "", "texts": "",
+        "of": "hand", "waits": "hand", "trial": "", "attempt": "work", "__len__": ""})},
+    "trees": {"TreeEnd": ("texts waiting unheard", {})},
 }
 
 
