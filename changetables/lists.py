@@ -68,12 +68,12 @@ def effect_of(kinds, changes):
 
 def check_two_hands(one, other):
     """Raise SameHand unless each list is of one hand, and these are different."""
-    hands = [set_of_hands(changes) for changes in (one, other)]
+    hands = [hands_of(changes) for changes in (one, other)]
     if max(len(hands[0]), len(hands[1])) > 1 or (hands[0] != [] and hands[0] == hands[1]):
         raise SameHand("each of two lists has changes of one hand, and not of the other one's")
 
 
-def set_of_hands(changes):
+def hands_of(changes):
     """The hands of changes, ascending."""
     return sorted(set([change[3] for change in changes if change is not None]))
 

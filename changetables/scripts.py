@@ -61,7 +61,7 @@ class Script:
         rows = text.split("\n")
         lines = [Line(at + 1, row) for at, row in enumerate(rows)]
         self.lines = [line for line in lines if not line.is_over()]
-        self.behind = len(rows) + 1
+        self.after = len(rows) + 1
         self.at = 0
 
     def is_over(self):
@@ -75,7 +75,7 @@ class Script:
     def next_line(self):
         """The next line, which must be there."""
         if self.is_over():
-            raise BadScript(self.behind, 1)
+            raise BadScript(self.after, 1)
         self.at = self.at + 1
         return self.lines[self.at - 1]
 

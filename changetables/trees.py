@@ -40,8 +40,7 @@ class Grows:
         """Whether they do by the table, and these are the links."""
         check_table(table)
         check_links(links)
-        return (isinstance(self.links, list) and are_links(self.links) and self.links == list(links)
-                and first_split(table) is None)
+        return are_links(self.links) and self.links == list(links) and first_split(table) is None
 
 
 class Withers:

@@ -183,6 +183,12 @@ class Undo(unittest.TestCase):
         for letter in (1, 5):
             self.assertEqual(raised(BadStep, desk.does, ("put", 0, letter, 0)).place, 1)
 
+    def test_letters_of_the_first_text_that_were_cut(self):
+        desk = Desk(BOTH, (1, 2), 2).does(("cut", 0, None, 0)).does(("put", 0, 5, 0)).does(("cut", 0, None, 0)).close()
+        self.assertEqual(desk.texts(), ((2,), (2,)))
+        for letter in (1, 5):
+            self.assertEqual(raised(BadStep, desk.does, ("put", 0, letter, 1)).place, len(desk))
+
     def test_a_step_that_failed_is_no_deed(self):
         desk = Desk(BOTH, (1,), 2).does(("put", 0, 5, 0))
         raised(BadStep, desk.hears, 1)

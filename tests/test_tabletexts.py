@@ -354,7 +354,7 @@ KIND_CASES = [
     ("", 2, 1), ("\n", 3, 1), ("\n\n# kind put: 0 new\n", 5, 1), ("   ", 2, 1),
     # Other characters and signs.
     (PUT + ".", 2, 1), (PUT + "kind a; 1", 2, 7), ("kind a: 1.", 1, 10), ("kind a: 1 -", 1, 11), ("kind a: 1 +1", 1, 11),
-    ("kind a:\r\n", 1, 8), ("kind a: 1\r\n", 1, 10), ("kind a: 1\u00a0", 1, 10), ("kind \u00e9: 1", 1, 6), ("kind a: \u00b2", 1, 9),
+    ("kind a:\r\n", 1, 8), ("kind a: 1\r\n", 1, 10), ("kind a: 1\u00a0", 1, 10), ("kind \u00e9: 1", 1, 6), ("kind a\u00e9: 1", 1, 7), ("kind a: \u00b2", 1, 9),
     ("kind a: \u0661", 1, 9), ("kind a_: 1", 1, 7), ("kind a: 1\t", 1, 10), ("kind a:\f1", 1, 8), ("kind a: 1\u2028kind", 1, 10),
 ]
 

@@ -222,7 +222,7 @@ class Errors(unittest.TestCase):
 
     def test_what_is_no_step_behind_a_form_that_cannot_be_done(self):
         steps = [("does", ("put", 0, 7, 0)), ("does", ("put", 0, 8, 1)), ("up", 1), ("up", 1)]
-        for step in (7, ("up", 2), ("does", ("put", 0, 9, 5)), ("does", ("put", 0, 7, 0))):
+        for step in (7, ("up", 2), ("up", 0), ("down", 0), ("does", ("put", 0, 9, 5)), ("does", ("put", 0, 7, 0))):
             for asked in (run_tree, closing_tree):
                 self.assertEqual(raised(BadStep, asked, FAR, (), [0], steps + [step]).place, 4)
             self.assertFalse(Withers((), steps + [step]).shows(FAR, [0]))
