@@ -412,6 +412,13 @@ class Wrongs(unittest.TestCase):
             self.check(read_kinds, [text], line, column)
             self.check(read_table, [text], line, column)
 
+    def test_kinds_at_later_lines_and_behind_blanks(self):
+        for text, line, column in KIND_CASES:
+            self.check(read_kinds, ["# x\n  \n" + text], line + 2, column)
+            *ahead, last = text.split("\n")
+            if line == len(ahead) + 1:
+                self.check(read_table, ["\n".join([*ahead, "  " + last])], line, column + 2)
+
     def test_only_lines_of_kinds_tell_kinds(self):
         self.check(read_kinds, [PUT + "\n  put put at 0 not: none"], 3, 3)
         self.check(read_kinds, [PUT + "X"], 2, 1)
@@ -432,6 +439,13 @@ class Wrongs(unittest.TestCase):
     def test_runs(self):
         for text, line, column in RUN_CASES:
             self.check(read_run, [BOTH, text], line, column)
+
+    def test_runs_at_later_lines_and_behind_blanks(self):
+        for text, line, column in RUN_CASES:
+            self.check(read_run, [BOTH, "\n# x\n" + text], line + 2, column)
+            *ahead, last = text.split("\n")
+            if line == len(ahead) + 1:
+                self.check(read_run, [BOTH, "\n".join([*ahead, " " + last])], line, column + 1)
 
     def test_steps(self):
         for text, column in STEP_CASES:
